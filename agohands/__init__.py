@@ -1,0 +1,1 @@
+"""Agohands: hands that do what others did some beats ago."""

@@ -1,0 +1,21 @@
+"""What kind of thing something is: asked of anything, raising nothing."""
+
+
+def is_whole(thing):
+    """Whether it is a whole number: True and False are none."""
+    return type(thing) == int
+
+
+def is_from_to(thing, low, high):
+    """Whether it is a whole number from low to high."""
+    return is_whole(thing) and low <= thing <= high
+
+
+def is_tuple(thing, least, most):
+    """Whether it is a tuple of least to most things."""
+    return type(thing) == tuple and least <= len(thing) <= most
+
+
+def is_text(thing):
+    """Whether it is a text."""
+    return type(thing) == str

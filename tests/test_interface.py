@@ -1,0 +1,76 @@
+"""The interface's names, each in its own file, and the program's form."""
+
+import ast
+import unittest
+from importlib import import_module
+from inspect import isclass, signature
+from pathlib import Path
+
+PACKAGE = Path(__file__).resolve().parent.parent / "agohands"
+
+FUNCTIONS = {
+    "turns": {"is_turn": "many thing", "after": "one other", "power": "turn k", "settles": "turn"},
+    "webs": {
+        "is_web": "thing", "clock": "web", "most_ago": "web",
+        "rule_at": "web hand beat", "idle_rules": "web",
+    },
+}
+CLASSES = {
+    "errors": "HandError TooLong NoWindow NotLike NoBeat Late NoWeb NoHand NoState NoText NoRow",
+}
+
+
+class Interface(unittest.TestCase):
+    def test_functions(self):
+        for file, functions in FUNCTIONS.items():
+            module = import_module("agohands." + file)
+            for name, arguments in functions.items():
+                found = getattr(module, name)
+                self.assertEqual(found.__module__, module.__name__, name)
+                self.assertEqual(list(signature(found).parameters), arguments.split(), name)
+
+    def test_classes(self):
+        for file, names in CLASSES.items():
+            module = import_module("agohands." + file)
+            for name in names.split():
+                found = getattr(module, name)
+                self.assertTrue(isclass(found), name)
+                self.assertEqual(found.__module__, module.__name__, name)
+
+
+class Form(unittest.TestCase):
+    def files(self):
+        found = sorted(PACKAGE.glob("*.py"))
+        self.assertIn(PACKAGE / "__init__.py", found)
+        return found
+
+    def test_the_package_holds_only_python_files(self):
+        for path in PACKAGE.iterdir():
+            self.assertTrue(path.suffix == ".py" or path.name == "__pycache__", path)
+
+    def test_rows_and_files_are_short_and_plain(self):
+        for path in self.files():
+            text = path.read_text(encoding="utf-8")
+            self.assertTrue(all(sign == "\n" or " " <= sign <= "~" for sign in text), path)
+            rows = text.splitlines()
+            self.assertLessEqual(len(rows), 399, path)
+            self.assertLessEqual(max(map(len, rows)), 120, path)
+
+    def test_functions_are_short(self):
+        for path in self.files():
+            for part in ast.walk(ast.parse(path.read_text(encoding="utf-8"))):
+                if isinstance(part, ast.FunctionDef):
+                    self.assertLessEqual(part.end_lineno - part.lineno + 1, 40, (path, part.name))
+
+    def test_imports_are_from_the_package_or_allowed(self):
+        allowed = {"heapq", "math", "itertools", "collections", "__future__"}
+        for path in self.files():
+            for part in ast.walk(ast.parse(path.read_text(encoding="utf-8"))):
+                self.assertNotIsInstance(part, ast.Import, path)
+                if isinstance(part, ast.ImportFrom):
+                    self.assertEqual(part.level, 0, path)
+                    self.assertTrue(part.module in allowed or part.module.startswith("agohands."), path)
+
+
+if __name__ == "__main__":
+    unittest.main()
