@@ -16,6 +16,11 @@ def is_tuple(thing, least, most):
     return type(thing) == tuple and least <= len(thing) <= most
 
 
+def is_list(thing, least, most):
+    """Whether it is a list of least to most things."""
+    return type(thing) == list and least <= len(thing) <= most
+
+
 def is_text(thing):
     """Whether it is a text."""
     return type(thing) == str

@@ -45,6 +45,20 @@ def power(turn, k):
     return done
 
 
+def often(turn, doing, k):
+    """What the turn done k times makes of the doing."""
+    # One doing comes again after nine steps at most, so it need not be done
+    # for the others, nor for each of the k times.
+    come_to = []
+    while doing not in come_to:
+        if len(come_to) == k:
+            return doing
+        come_to.append(doing)
+        doing = turn[doing]
+    first = come_to.index(doing)
+    return come_to[first + (k - first) % (len(come_to) - first)]
+
+
 def settles(turn):
     """The least (first, round) from which the turn's powers come again."""
     # The first power that was there before closes the circle of all powers,

@@ -98,6 +98,13 @@ def rule_at(web, hand, beat):
     return len(rules) - 1
 
 
+def own_doing(rule, beat):
+    """What a hand does at a beat at which it goes by this own rule."""
+    every, _, what = rule
+    row = what[1]
+    return row[beat // every % len(row)]
+
+
 def _idle_of(web, hand):
     rules = web[2][hand]
     beats = 1

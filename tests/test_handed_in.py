@@ -3,14 +3,28 @@
 import unittest
 from copy import deepcopy
 
+from agohands.errors import NoWindow, TooLong
+from agohands.far import doing_at, doings_from, scene_at
+from agohands.rows import plain_rows
+from agohands.traces import source, trace
 from agohands.turns import after, is_turn, power, settles
 from agohands.webs import clock, idle_rules, is_web, most_ago, rule_at
+from agohands.windows import (
+    hand_round, may_be_window, next_window, scene_of, scene_round, web_round, window_at,
+)
 
 WEB = (3, (0, 2), (
     ((3, 2, ("own", (0, 1))), (1, 0, ("copy", 1, 1, (1, 2, 0)))),
     ((2, 1, ("copy", 0, 12, (2, 2, 2))), (4, 3, ("own", (2,))), (1, 0, ("copy", 1, 5, (0, 1, 2)))),
 ))
 TURN = (1, 2, 0, 0)
+SELF = (3, (0,), (((1, 0, ("copy", 0, 1, (1, 2, 0))),),))
+
+# Each hand goes round soon, all together after more than 5,000 beats.
+APART = (9, (0, 0, 0), tuple(
+    ((1, 0, ("copy", hand, ago, (*range(1, size), 0, *range(size, 9)))),)
+    for hand, (ago, size) in enumerate(((10, 5), (11, 9), (7, 7)))
+))
 
 CALLS = (
     (is_turn, (4, TURN), True),
@@ -26,6 +40,28 @@ CALLS = (
     (most_ago, (WEB,), 12),
     (rule_at, (WEB, 1, 10 ** 18), 2),
     (idle_rules, (WEB,), [[], [1]]),
+    (plain_rows, (WEB, 6), [[0, 0, 0, 0, 0, 1], [2, 2, 2, 2, 2, 2]]),
+    (trace, (WEB, 0, 7), [(0, 7), (1, 6), (1, 1), (0, -11)]),
+    (source, (SELF, 0, 10 ** 18), (0, -1, (2, 0, 1), 10 ** 18 + 1)),
+    (doing_at, (SELF, 0, 10 ** 18), 2),
+    (scene_at, (SELF, 10 ** 18), (2,)),
+    (doings_from, (SELF, 0, 10 ** 18 - 4, 5), [1, 2, 0, 1, 2]),
+    (window_at, (SELF, 10 ** 18), (0, ((1,),))),
+    (may_be_window, (SELF, (0, ((1,),))), True),
+    (may_be_window, (SELF, (0, [[1]])), False),
+    (scene_of, (SELF, (0, ((1,),))), (2,)),
+    (next_window, (SELF, (0, ((1,),))), (0, ((2,),))),
+    (web_round, (WEB,), (12, 12)),
+    (hand_round, (WEB, 1), (0, 1)),
+    (scene_round, (WEB,), (0, 6)),
+)
+REFUSED = (
+    (trace, (SELF, 0, 499), TooLong),
+    (web_round, (APART,), TooLong),
+    (hand_round, (APART, 0), TooLong),
+    (scene_round, (APART,), TooLong),
+    (scene_of, (SELF, (0, [[1]])), NoWindow),
+    (next_window, (SELF, [0, ((1,),)]), NoWindow),
 )
 
 
@@ -41,6 +77,22 @@ class HandedIn(unittest.TestCase):
             for _ in range(3):
                 self.assertEqual(call(*handed), told, call.__name__)
                 self.assertIs(type(call(*handed)), type(told))
+
+    def test_what_is_refused_stays_and_is_refused_again(self):
+        for call, handed, refusal in REFUSED:
+            as_it_was = deepcopy(handed)
+            for _ in range(2):
+                with self.assertRaises(refusal):
+                    call(*handed)
+            self.assertEqual(handed, as_it_was, call.__name__)
+
+    def test_told_lists_are_the_askers_own(self):
+        for call, handed, told in CALLS:
+            if type(told) is list:
+                one = call(*handed)
+                self.assertIsNot(call(*handed), one)
+                one.append(None)
+                self.assertEqual(call(*handed), told, call.__name__)
 
     def test_other_calls_between_change_nothing(self):
         for _ in range(2):

@@ -14,7 +14,15 @@ FUNCTIONS = {
         "is_web": "thing", "clock": "web", "most_ago": "web",
         "rule_at": "web hand beat", "idle_rules": "web",
     },
+    "rows": {"plain_rows": "web beat"},
+    "traces": {"trace": "web hand beat * most=500", "source": "web hand beat"},
+    "far": {"doing_at": "web hand beat", "scene_at": "web beat", "doings_from": "web hand first count"},
+    "windows": {
+        "window_at": "web beat", "may_be_window": "web thing", "scene_of": "web window",
+        "next_window": "web window", "web_round": "web", "hand_round": "web hand", "scene_round": "web",
+    },
 }
+NUMBERS = {"traces": {"MOST_STEPS": 500}}
 CLASSES = {
     "errors": "HandError TooLong NoWindow NotLike NoBeat Late NoWeb NoHand NoState NoText NoRow",
 }
@@ -27,7 +35,22 @@ class Interface(unittest.TestCase):
             for name, arguments in functions.items():
                 found = getattr(module, name)
                 self.assertEqual(found.__module__, module.__name__, name)
-                self.assertEqual(list(signature(found).parameters), arguments.split(), name)
+                self.assertEqual(str(signature(found)), f"({', '.join(arguments.split())})", name)
+
+    def test_numbers(self):
+        for file, numbers in NUMBERS.items():
+            module = import_module("agohands." + file)
+            for name, number in numbers.items():
+                self.assertIs(type(getattr(module, name)), int, name)
+                self.assertEqual(getattr(module, name), number, name)
+
+    def test_each_is_defined_in_its_file(self):
+        for names in (FUNCTIONS, CLASSES):
+            for file in names:
+                tree = ast.parse((PACKAGE / (file + ".py")).read_text(encoding="utf-8"))
+                defined = {part.name for part in tree.body if isinstance(part, (ast.FunctionDef, ast.ClassDef))}
+                wanted = names[file].split() if names is CLASSES else names[file]
+                self.assertLessEqual(set(wanted), defined, file)
 
     def test_classes(self):
         for file, names in CLASSES.items():

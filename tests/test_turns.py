@@ -3,7 +3,7 @@
 import unittest
 from itertools import product
 
-from agohands.turns import after, is_turn, power, settles
+from agohands.turns import after, is_turn, often, power, settles
 from things import Odd, Sore, anything, near_misses
 
 
@@ -144,6 +144,16 @@ class Power(unittest.TestCase):
         self.assertEqual(power((1, 2, 0), 10 ** 18), (1, 2, 0))
         self.assertEqual(power((1, 0), 10 ** 18 - 1), (1, 0))
         self.assertEqual(power((0,), 10 ** 18), (0,))
+
+
+class Often(unittest.TestCase):
+    def test_as_the_turn_done_so_many_times(self):
+        turns = [*all_turns(3), (1, 2, 3, 4, 0, 6, 7, 8, 5), (1, 2, 3, 4, 5, 6, 7, 8, 8), (3, 0, 1, 4, 5, 3, 2)]
+        for turn in turns:
+            for k in (*range(25), 10 ** 18, 10 ** 18 - 1, 2 ** 59 - 1):
+                done = power(turn, k)
+                for doing in range(len(turn)):
+                    self.assertEqual(often(turn, doing, k), done[doing])
 
 
 class Settles(unittest.TestCase):
