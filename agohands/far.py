@@ -1,6 +1,6 @@
 """What hands do at beats however far."""
 
-from agohands.rows import row_of, scenes_on
+from agohands.rows import Going, row_of
 from agohands.ways import Ways
 from agohands.webs import most_ago
 
@@ -27,8 +27,6 @@ def past_at(web, beat):
 
 def doings_from(web, hand, first, count):
     """The list of what the hand does at so many beats from the first on."""
-    if count == 0:
-        return []
     # Going on from what stands right below leads back no oftener than the
     # web's rules look back, however many are asked.
-    return row_of(scenes_on(web, past_at(web, first), first, count), hand)
+    return row_of(Going(web).on(past_at(web, first), first, count), hand)

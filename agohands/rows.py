@@ -3,36 +3,42 @@
 from agohands.webs import clock, most_ago, own_doing, rule_at
 
 
-def _step(web, hand, beat):
-    """(copied hand, ago, turn) by which the hand goes at the beat."""
-    rule = web[2][hand][rule_at(web, hand, beat)]
-    what = rule[2]
-    if what[0] == "copy":
-        return what[1:]
-    # An own doing is what the turn that makes all doings into it makes of
-    # any doing, so going on need not ask which of the two a rule is.
-    return 0, 1, (own_doing(rule, beat),) * web[0]
+class Going:
+    """The going on of a web beat by beat, its rules looked up once."""
 
+    def __init__(self, web):
+        self.web = web
+        self.beats = clock(web)
+        self.steps = {}
 
-def scenes_on(web, past, beat, count):
-    """The scenes at so many beats from the beat on.
+    def _step(self, hand, rest):
+        """(copied hand, ago, turn) by which the hand goes at beats of this rest."""
+        rule = self.web[2][hand][rule_at(self.web, hand, rest)]
+        what = rule[2]
+        if what[0] == "copy":
+            return what[1:]
+        # An own doing is what the turn that makes all doings into it makes of
+        # any doing, so going on need not ask which of the two a rule is.
+        return 0, 1, (own_doing(rule, rest),) * self.web[0]
 
-    past has the scenes at the beats below, the latest last: at least as many
-    as the web's most ago.
-    """
-    beats = clock(web)
-    hands = range(len(web[2]))
-    steps_by_rest = {}
-    # The first one is there for own doings alone: they too copy something.
-    scenes = [web[1], *past]
-    for now in range(beat, beat + count):
-        rest = now % beats
-        if rest not in steps_by_rest:
-            steps_by_rest[rest] = [_step(web, hand, rest) for hand in hands]
-        steps = steps_by_rest[rest]
-        scene = tuple([turn[scenes[-ago][copied]] for copied, ago, turn in steps])
-        scenes.append(scene)
-    return scenes[len(past) + 1:]
+    def _steps_at(self, rest):
+        if rest not in self.steps:
+            self.steps[rest] = [self._step(hand, rest) for hand in range(len(self.web[2]))]
+        return self.steps[rest]
+
+    def on(self, past, beat, count):
+        """The scenes at so many beats from the beat on.
+
+        past has the scenes at the beats below, the latest last: at least as
+        many as the web's most ago.
+        """
+        # The first one is there for own doings alone: they too copy something.
+        scenes = [self.web[1], *past]
+        for now in range(beat, beat + count):
+            steps = self._steps_at(now % self.beats)
+            scene = tuple([turn[scenes[-ago][copied]] for copied, ago, turn in steps])
+            scenes.append(scene)
+        return scenes[len(past) + 1:]
 
 
 def scenes_before(web):
@@ -47,5 +53,5 @@ def row_of(scenes, hand):
 
 def plain_rows(web, beat):
     """For each hand the list of what it does at the beats below this one."""
-    scenes = scenes_on(web, scenes_before(web), 0, beat)
+    scenes = Going(web).on(scenes_before(web), 0, beat)
     return [row_of(scenes, hand) for hand in range(len(web[2]))]

@@ -4,7 +4,7 @@ from agohands.errors import NoWindow
 from agohands.far import past_at
 from agohands.kinds import is_from_to, is_tuple
 from agohands.rounds import going_round, least_round
-from agohands.rows import row_of, scenes_on
+from agohands.rows import Going, row_of
 from agohands.turns import are_doings
 from agohands.webs import clock, most_ago
 
@@ -34,7 +34,7 @@ def scene_of(web, window):
         raise NoWindow("it may be no window of the web")
     rest, pasts = window
     latest_first = list(zip(*pasts))
-    return scenes_on(web, latest_first[::-1], rest, 1)[0]
+    return Going(web).on(latest_first[::-1], rest, 1)[0]
 
 
 def next_window(web, window):

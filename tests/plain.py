@@ -160,6 +160,19 @@ MIXED = (3, (0, 2), (
 LONG = ((copy(0, 10, circle(5)),), (copy(1, 11, circle(9)),), (copy(2, 5, chain(8)),))
 JUST_IN_TIME = alone(*LONG, (copy(2, 4, range(9)),))
 JUST_TOO_LATE = alone(*LONG, (copy(2, 5, range(9)),))
+# The way back goes round all five hands in 125 beats, by one turn that comes
+# again after five: the windows at 0 and at 5,000 are alike, no others before.
+FROM_THE_FIRST = alone(
+    *[
+        (
+            copy((hand + 1) % 5, 11, range(9) if hand else circle(5), every=5),
+            copy(hand, 11, range(9), every=5, at=1),
+            copy(hand, 1, range(9)),
+        )
+        for hand in range(5)
+    ],
+    (own(0, 0, every=4), own(0)),
+)
 # Each hand goes round within 100 beats, all of them together far later.
 APART = alone(LONG[0], LONG[1], (copy(2, 7, circle(7)),))
 # Six hands of twelve-beat rules and a clock of 240; it goes round in time.
@@ -184,7 +197,7 @@ WIDE_CIRCLE = (9, (8, 7, 6, 5, 4, 3), tuple(
 ))
 NO_COPIES = (4, (3, 1), ((own(0, 1, every=2, at=1), own(2, 2, 3)), (own(1),)))
 ONE_DOING = (1, (0,), ((copy(0, 3, (0,)),),))
-KINDS = (MIXED, JUST_IN_TIME, JUST_TOO_LATE, APART, WIDE, WIDE_CIRCLE, NO_COPIES, ONE_DOING)
+KINDS = (MIXED, JUST_IN_TIME, JUST_TOO_LATE, FROM_THE_FIRST, APART, WIDE, WIDE_CIRCLE, NO_COPIES, ONE_DOING)
 
 
 def all_whole(thing):

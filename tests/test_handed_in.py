@@ -3,9 +3,14 @@
 import unittest
 from copy import deepcopy
 
-from agohands.errors import NoWindow, TooLong
+from agohands.errors import NotLike, NoWindow, TooLong
 from agohands.far import doing_at, doings_from, scene_at
+from agohands.likeness import first_apart, first_parted, order_of, renamed, side_by_side
+from agohands.meetings import how_often, is_test, kth_doing, times_of
 from agohands.rows import plain_rows
+from agohands.times import (
+    beside, both, count_below, either, is_meant, is_times, kth, moved, without,
+)
 from agohands.traces import source, trace
 from agohands.turns import after, is_turn, power, settles
 from agohands.webs import clock, idle_rules, is_web, most_ago, rule_at
@@ -25,6 +30,8 @@ APART = (9, (0, 0, 0), tuple(
     ((1, 0, ("copy", hand, ago, (*range(1, size), 0, *range(size, 9)))),)
     for hand, (ago, size) in enumerate(((10, 5), (11, 9), (7, 7)))
 ))
+
+ODD, LATE = (0, 2, (), (1,)), (3, 1, (1,), (0,))
 
 CALLS = (
     (is_turn, (4, TURN), True),
@@ -54,6 +61,27 @@ CALLS = (
     (web_round, (WEB,), (12, 12)),
     (hand_round, (WEB, 1), (0, 1)),
     (scene_round, (WEB,), (0, 6)),
+    (is_times, (ODD,), True),
+    (is_times, ((0, 2, [], [1]),), False),
+    (is_meant, (ODD, 10 ** 18), False),
+    (count_below, (ODD, 10 ** 18), 10 ** 18 // 2),
+    (kth, (ODD, 10 ** 18), 2 * 10 ** 18 + 1),
+    (both, (ODD, LATE), (0, 2, (), (1,))),
+    (either, (ODD, LATE), (3, 1, (1,), (0,))),
+    (without, (ODD, LATE), (0, 1, (), ())),
+    (beside, (ODD,), (0, 2, (), (0,))),
+    (moved, (ODD, 1), (1, 2, (), (0,))),
+    (is_test, (WEB, ("not", ("does", 0, 1))), True),
+    (is_test, (WEB, ["not", ("does", 0, 1)]), False),
+    (is_test, (WEB, ("all", [("does", 0, 1)])), False),
+    (times_of, (WEB, ("any", (("does", 0, 1), ("goes", 1, 0)))), (0, 2, (), (1,))),
+    (how_often, (WEB, 0, 6), [5, 1, 0]),
+    (kth_doing, (WEB, 0, 1, 10 ** 17), 6 * 10 ** 17 + 5),
+    (first_apart, (WEB, 0, WEB, 1), 0),
+    (first_parted, (WEB, WEB), None),
+    (renamed, (SELF, [0], (1, 0, 2)), (3, (1,), (((1, 0, ("copy", 0, 1, (2, 0, 1))),),))),
+    (order_of, (WEB, WEB), [0, 1]),
+    (side_by_side, (SELF, SELF), (3, (0, 0), (SELF[2][0], ((1, 0, ("copy", 1, 1, (1, 2, 0))),)))),
 )
 REFUSED = (
     (trace, (SELF, 0, 499), TooLong),
@@ -62,6 +90,17 @@ REFUSED = (
     (scene_round, (APART,), TooLong),
     (scene_of, (SELF, (0, [[1]])), NoWindow),
     (next_window, (SELF, [0, ((1,),)]), NoWindow),
+    (both, ((0, 50000, (), (1,)), (0, 3, (), (1,))), TooLong),
+    (moved, ((20000, 1, (19999,), ()), 1), TooLong),
+    (times_of, (APART, ("not", ("does", 0, 1))), TooLong),
+    (how_often, (APART, 0, 0), TooLong),
+    (kth_doing, (APART, 0, 1, 0), TooLong),
+    (first_apart, (SELF, 0, APART, 0), TooLong),
+    (first_parted, (SELF, APART), NotLike),
+    (renamed, (SELF, [[0]], (1, 0, 2)), NotLike),
+    (renamed, (SELF, [0], [1, [0], 2]), NotLike),
+    (order_of, (APART, APART), TooLong),
+    (side_by_side, (SELF, APART), NotLike),
 )
 
 

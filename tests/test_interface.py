@@ -21,6 +21,19 @@ FUNCTIONS = {
         "window_at": "web beat", "may_be_window": "web thing", "scene_of": "web window",
         "next_window": "web window", "web_round": "web", "hand_round": "web hand", "scene_round": "web",
     },
+    "times": {
+        "is_times": "thing", "is_meant": "times beat", "count_below": "times beat", "kth": "times k",
+        "both": "one other", "either": "one other", "without": "one other", "beside": "times",
+        "moved": "times beats",
+    },
+    "meetings": {
+        "is_test": "web thing", "times_of": "web test", "how_often": "web hand beat",
+        "kth_doing": "web hand doing k",
+    },
+    "likeness": {
+        "first_apart": "web hand other its", "first_parted": "web other", "renamed": "web order turn",
+        "order_of": "web other", "side_by_side": "web other",
+    },
 }
 NUMBERS = {"traces": {"MOST_STEPS": 500}}
 CLASSES = {

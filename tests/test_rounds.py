@@ -6,8 +6,8 @@ from agohands.errors import TooLong
 from agohands.far import doing_at, scene_at
 from agohands.windows import hand_round, scene_round, web_round, window_at
 from plain import (
-    APART, FAR, JUST_IN_TIME, JUST_TOO_LATE, KINDS, LONG, MIXED, NO_COPIES, ONE_DOING, WIDE, WIDE_CIRCLE, all_whole,
-    alone, chain, circle, copy, going, own, plain_round, row_round, webs,
+    APART, FAR, FROM_THE_FIRST, JUST_IN_TIME, JUST_TOO_LATE, KINDS, LONG, MIXED, NO_COPIES, ONE_DOING, WIDE,
+    WIDE_CIRCLE, all_whole, alone, chain, circle, copy, going, own, plain_round, row_round, webs,
 )
 
 TOO_LONG = (APART, JUST_TOO_LATE, WIDE_CIRCLE)
@@ -53,6 +53,18 @@ class WebRound(unittest.TestCase):
         rows = going(JUST_IN_TIME, 5000)
         self.assertEqual(plain_round(JUST_IN_TIME, rows), (50, 4950))
         self.assertIsNone(plain_round(JUST_IN_TIME, rows, last=4999))
+
+    def test_at_the_first_beat_and_the_last(self):
+        rows = going(FROM_THE_FIRST, 5001)
+        self.assertEqual(plain_round(FROM_THE_FIRST, rows), (0, 5000))
+        self.assertIsNone(plain_round(FROM_THE_FIRST, rows, last=4999))
+        self.assertEqual(web_round(FROM_THE_FIRST), (0, 5000))
+        self.assertEqual([hand_round(FROM_THE_FIRST, hand)[1] for hand in range(6)], [625] * 5 + [1])
+        # As it is but for what one hand did before.
+        web = (9, (0, 0, 0, 0, 0, 1), FROM_THE_FIRST[2])
+        self.assertEqual(plain_round(web, going(web, 5011), last=5011), (11, 5000))
+        with self.assertRaises(TooLong):
+            web_round(web)
 
     def test_just_too_late(self):
         rows = going(JUST_TOO_LATE, 5001)
