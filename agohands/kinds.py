@@ -1,5 +1,7 @@
 """What kind of thing something is: asked of anything, raising nothing."""
 
+LAST_BEAT = 10 ** 18
+
 
 def is_whole(thing):
     """Whether it is a whole number: True and False are none."""
@@ -9,6 +11,16 @@ def is_whole(thing):
 def is_from_to(thing, low, high):
     """Whether it is a whole number from low to high."""
     return is_whole(thing) and low <= thing <= high
+
+
+def is_from(thing, low):
+    """Whether it is a whole number from low on."""
+    return is_whole(thing) and thing >= low
+
+
+def is_beat(thing):
+    """Whether it is a beat from 0 on."""
+    return is_from_to(thing, 0, LAST_BEAT)
 
 
 def is_tuple(thing, least, most):

@@ -21,7 +21,8 @@ class Going:
         # any doing, so going on need not ask which of the two a rule is.
         return 0, 1, (own_doing(rule, rest),) * self.web[0]
 
-    def _steps_at(self, rest):
+    def steps_at(self, rest):
+        """For each hand (copied hand, ago, turn) at beats of this rest."""
         if rest not in self.steps:
             self.steps[rest] = [self._step(hand, rest) for hand in range(len(self.web[2]))]
         return self.steps[rest]
@@ -35,7 +36,7 @@ class Going:
         # The first one is there for own doings alone: they too copy something.
         scenes = [self.web[1], *past]
         for now in range(beat, beat + count):
-            steps = self._steps_at(now % self.beats)
+            steps = self.steps_at(now % self.beats)
             scene = tuple([turn[scenes[-ago][copied]] for copied, ago, turn in steps])
             scenes.append(scene)
         return scenes[len(past) + 1:]

@@ -1,7 +1,7 @@
 """Traces: how doings lead back to their beginnings."""
 
 from agohands.errors import TooLong
-from agohands.ways import Ways
+from agohands.ways import Ways, copies_in
 from agohands.webs import rule_at
 
 MOST_STEPS = 500
@@ -33,5 +33,4 @@ def source(web, hand, beat):
     """Where the doing began: (hand, beat, turn, copies)."""
     ways = Ways(web)
     parts, begun_by, begun_at = ways.back(hand, beat)
-    copies = sum([len(rows) * times for rows, times in parts])
-    return begun_by, max(begun_at, -1), ways.turn_of_all(parts), copies
+    return begun_by, max(begun_at, -1), ways.turn_of_all(parts), copies_in(parts)

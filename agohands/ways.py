@@ -4,6 +4,11 @@ from agohands.turns import after, often, power, staying
 from agohands.webs import clock, own_doing, rule_at
 
 
+def copies_in(parts):
+    """How many copies there are in all parts of a way."""
+    return sum([len(rows) * times for rows, times in parts])
+
+
 class Ways:
     """The ways back of one web's doings.
 
@@ -24,17 +29,17 @@ class Ways:
             self.rules[hand, rest] = rule_at(self.web, hand, rest)
         return self.rules[hand, rest]
 
-    def back(self, hand, beat):
+    def back(self, hand, beat, floor=0):
         """(parts, hand, beat): the parts of the way, the youngest first, and its end.
 
-        At the end the hand goes by an own rule, or the beat is below 0.
+        At the end the hand goes by an own rule, or the beat is below the floor.
         """
         rows = []
         met = {}
-        while beat >= 0:
+        while beat >= floor:
             place = (hand, beat % self.beats)
             if place in met:
-                return self._round(rows, met[place], beat)
+                return self._round(rows, met[place], beat, floor)
             number = self.rule(hand, place[1])
             what = self.web[2][hand][number][2]
             if what[0] == "own":
@@ -45,17 +50,17 @@ class Ways:
             beat = beat - what[2]
         return [(rows, 1)], hand, beat
 
-    def _round(self, rows, start, beat):
+    def _round(self, rows, start, beat, floor):
         """As back, where the row of number start comes again at the beat."""
         circle = rows[start:]
         agos = [self._what(row)[2] for row in circle]
         beats = sum(agos)
         # Once more is whole where the circle's last row, which stands its own
-        # ago before the circle's end, is not below beat 0.
-        more = (beat + agos[-1]) // beats
+        # ago before the circle's end, is not below the floor.
+        more = (beat - floor + agos[-1]) // beats
         beat = beat - more * beats
         left = []
-        while beat >= 0:
+        while beat >= floor:
             beat = beat - agos[len(left)]
             left.append(circle[len(left)])
         return [(rows[:start], 1), (circle, 1 + more), (left, 1)], circle[len(left)][0], beat
@@ -78,17 +83,23 @@ class Ways:
             turn = after(power(self.turn(rows), times), turn)
         return turn
 
-    def doing(self, hand, beat):
-        """What the hand does at the beat, or did where that is below 0."""
-        parts, hand, beat = self.back(hand, beat)
+    def begun(self, hand, beat):
+        """What is done at the end of a way: by an own rule, or before."""
         if beat < 0:
-            doing = self.web[1][hand]
-        else:
-            number = self.rule(hand, beat % self.beats)
-            doing = own_doing(self.web[2][hand][number], beat)
+            return self.web[1][hand]
+        number = self.rule(hand, beat % self.beats)
+        return own_doing(self.web[2][hand][number], beat)
+
+    def led_on(self, parts, doing):
+        """What all parts make of the doing, the eldest first."""
         for rows, times in reversed(parts):
             doing = self._changed(rows, times, doing)
         return doing
+
+    def doing(self, hand, beat):
+        """What the hand does at the beat, or did where that is below 0."""
+        parts, begun_by, begun_at = self.back(hand, beat)
+        return self.led_on(parts, self.begun(begun_by, begun_at))
 
     def _changed(self, rows, times, doing):
         """What the rows, so many times over, make of the doing."""

@@ -52,6 +52,90 @@ def leads_back(web, hand, beat):
     return way
 
 
+def gone_on(web, past, beat, count):
+    """The scenes at so many beats from the beat on, behind twelve scenes, the latest last."""
+    scenes = list(past)
+    for now in range(beat, beat + count):
+        scene = []
+        for hand in range(len(web[2])):
+            every, _, what = rule_of(web, hand, now)
+            if what[0] == "own":
+                scene.append(what[1][now // every % len(what[1])])
+            else:
+                _, copied, ago, turn = what
+                scene.append(turn[scenes[-ago][copied]])
+        scenes.append(tuple(scene))
+    return scenes[len(past):]
+
+
+def gone_far(web, past, beat, end):
+    """The last twelve scenes below the end, one by one till all of it comes again."""
+    met, past, beats = {}, tuple(past), plain_clock(web)
+    while beat < end:
+        key = (beat % beats, past)
+        if key in met:
+            again = beat - met[key]
+            beat += (end - beat) // again * again
+            return (*past, *gone_on(web, past, beat, end - beat))[-12:]
+        met[key] = beat
+        past = (*past[1:], *gone_on(web, past, beat, 1))
+        beat += 1
+    return past
+
+
+def told_beats(story, last):
+    """(beat, web, end) of each part of the story, up to a last beat."""
+    ends = [beat for beat, _ in story[1:]] + [last + 1]
+    return [(beat, web, min(end, last + 1)) for (beat, web), end in zip(story, ends) if beat <= last]
+
+
+def story_going(story, beats):
+    """The scenes of the story at so many beats, one by one."""
+    scenes = [story[0][1][1]] * 12
+    for beat, web, end in told_beats(story, beats - 1):
+        scenes += gone_on(web, scenes[-12:], beat, end - beat)
+    return scenes[12:]
+
+
+def story_far(story, last):
+    """The last twelve scenes of the story, that of the last beat behind."""
+    past = (story[0][1][1],) * 12
+    for beat, web, end in told_beats(story, last):
+        past = gone_far(web, past, beat, end)
+    return past
+
+
+def web_of(story, beat):
+    """The web that goes at a beat of the story."""
+    return [web for start, web in story if start <= beat][-1]
+
+
+def story_leads_back(story, hand, beat):
+    """(hand, beat, turn, copies) of the doing's source, rule by rule."""
+    turn, copies = tuple(range(story[0][1][0])), 0
+    while beat >= 0:
+        what = rule_of(web_of(story, beat), hand, beat)[2]
+        if what[0] == "own":
+            break
+        _, hand, ago, earlier = what
+        turn = tuple(turn[doing] for doing in earlier)
+        copies, beat = copies + 1, beat - ago
+    return hand, max(beat, -1), turn, copies
+
+
+def a_story(chance, most_beat, own=0.3):
+    """Some story, its parts' beats to a most one."""
+    first = a_web(chance, own)
+    beats = {chance.randint(1, most_beat) for _ in range(chance.randint(0, 5))}
+    return ((0, first), *((beat, a_web(chance, own, like=first)) for beat in sorted(beats)))
+
+
+def stories(count, seed, most_beat=200):
+    """So many stories: of webs of many own rules, of few, of none."""
+    chance = Random(seed)
+    return [a_story(chance, most_beat, own=(0.3, 0.08, 0)[k % 3]) for k in range(count)]
+
+
 def plain_clock(web):
     beats = 1
     for rules in web[2]:
@@ -106,10 +190,10 @@ def a_what(chance, many, count, own):
     return ("copy", chance.randrange(count), chance.randint(1, 12), a_turn(chance, many))
 
 
-def a_web(chance, own=0.3, most_hands=6):
-    """Some web; own is how often a rule is an own one."""
+def a_web(chance, own=0.3, most_hands=6, like=None):
+    """Some web, perhaps with another's doings, hands and before; own is how often a rule is an own one."""
     while True:
-        many, count = chance.randint(1, 9), chance.randint(1, most_hands)
+        many, count = (like[0], len(like[2])) if like else (chance.randint(1, 9), chance.randint(1, most_hands))
         hands = []
         for _ in range(count):
             rules = []
@@ -117,7 +201,8 @@ def a_web(chance, own=0.3, most_hands=6):
                 every = chance.choice(EVERY)
                 rules.append((every, chance.randrange(every), a_what(chance, many, count, own)))
             hands.append((*rules, (1, 0, a_what(chance, many, count, own))))
-        web = (many, tuple(chance.randrange(many) for _ in range(count)), tuple(hands))
+        before = like[1] if like else tuple(chance.randrange(many) for _ in range(count))
+        web = (many, before, tuple(hands))
         if is_web(web):
             return web
 

@@ -3,11 +3,15 @@
 import unittest
 from copy import deepcopy
 
-from agohands.errors import NotLike, NoWindow, TooLong
+from agohands.errors import Late, NoBeat, NoHand, NoState, NotLike, NoWeb, NoWindow, TooLong
+from agohands.explains import explaining, fits, is_seen, left_out
 from agohands.far import doing_at, doings_from, scene_at
 from agohands.likeness import first_apart, first_parted, order_of, renamed, side_by_side
 from agohands.meetings import how_often, is_test, kth_doing, times_of
+from agohands.papers import round_fault, round_paper, source_fault, source_paper
 from agohands.rows import plain_rows
+from agohands.running import Running, running_of
+from agohands.stories import changed, is_story, story_doing, story_scene, story_source
 from agohands.times import (
     beside, both, count_below, either, is_meant, is_times, kth, moved, without,
 )
@@ -30,6 +34,12 @@ APART = (9, (0, 0, 0), tuple(
     ((1, 0, ("copy", hand, ago, (*range(1, size), 0, *range(size, 9)))),)
     for hand, (ago, size) in enumerate(((10, 5), (11, 9), (7, 7)))
 ))
+
+OTHER = (3, (0,), (((1, 0, ("own", (1, 2))),),))
+STORY = ((0, SELF), (4, OTHER), (6, SELF))
+SEEN = (3, (0, 2), ((1, 2, 0), (2, 1, 1)))
+ROUND = (SELF, 0, 0, 3, (0, ((0,),)))
+SOURCE = (SELF, 0, 4, 2, (0, -1, (2, 0, 1), 5), [(((0, 0),), 5)])
 
 ODD, LATE = (0, 2, (), (1,)), (3, 1, (1,), (0,))
 
@@ -82,6 +92,25 @@ CALLS = (
     (renamed, (SELF, [0], (1, 0, 2)), (3, (1,), (((1, 0, ("copy", 0, 1, (2, 0, 1))),),))),
     (order_of, (WEB, WEB), [0, 1]),
     (side_by_side, (SELF, SELF), (3, (0, 0), (SELF[2][0], ((1, 0, ("copy", 1, 1, (1, 2, 0))),)))),
+    (is_story, (STORY,), True),
+    (is_story, ([[0, SELF]],), False),
+    (is_story, (((0, [3, [0], []]),),), False),
+    (story_doing, (STORY, 0, 10 ** 18), 1),
+    (story_scene, (STORY, 5), (2,)),
+    (story_source, (STORY, 0, 10 ** 18), (0, 5, (2, 0, 1), 10 ** 18 - 5)),
+    (changed, (STORY, 5, SELF), (*STORY[:2], (5, SELF))),
+    (round_paper, (SELF, 0), ROUND),
+    (round_fault, (ROUND,), None),
+    (round_fault, ((*ROUND[:4], [0, [[0]]]),), ("form",)),
+    (source_paper, (SELF, 0, 4), SOURCE),
+    (source_fault, (SOURCE,), None),
+    (source_fault, ((*SOURCE[:5], [(((0, 0),), 6)]),), ("path", 0)),
+    (source_fault, ((*SOURCE[:5], [[], [[0, 0]]]),), ("form",)),
+    (is_seen, (SEEN,), True),
+    (is_seen, ([3, [0, 2], [[1], [2]]],), False),
+    (fits, (SEEN, 0), [(0, 1, (1, 2, 0))]),
+    (explaining, (SEEN,), (3, (0, 2), (((1, 0, ("copy", 0, 1, (1, 2, 0))),), ((1, 0, ("copy", 0, 1, (2, 1, 1))),)))),
+    (left_out, (OTHER[:2] + (((1, 1, 2),),), 0), {(0, ago): 0 if ago == 2 else 1 for ago in range(1, 13)}),
 )
 REFUSED = (
     (trace, (SELF, 0, 499), TooLong),
@@ -101,6 +130,10 @@ REFUSED = (
     (renamed, (SELF, [0], [1, [0], 2]), NotLike),
     (order_of, (APART, APART), TooLong),
     (side_by_side, (SELF, APART), NotLike),
+    (changed, (STORY, 5, [3, [0], []]), NotLike),
+    (changed, (STORY, 5, WEB), NotLike),
+    (round_paper, (APART, 0), TooLong),
+    (running_of, ([0, SELF, [[0] * 12]],), NoState),
 )
 
 
@@ -125,13 +158,35 @@ class HandedIn(unittest.TestCase):
                     call(*handed)
             self.assertEqual(handed, as_it_was, call.__name__)
 
-    def test_told_lists_are_the_askers_own(self):
+    def test_told_lists_and_dicts_are_the_askers_own(self):
         for call, handed, told in CALLS:
-            if type(told) is list:
+            if type(told) in (list, dict):
                 one = call(*handed)
                 self.assertIsNot(call(*handed), one)
-                one.append(None)
+                one.clear()
                 self.assertEqual(call(*handed), told, call.__name__)
+
+    def test_told_lists_within_others_are_the_askers_own(self):
+        one = idle_rules(WEB)
+        one[0].append(None)
+        rows = plain_rows(SELF, 2)
+        rows[0].append(None)
+        paper = source_paper(SELF, 0, 4)
+        paper[5].append(None)
+        self.assertEqual(idle_rules(WEB), [[], [1]])
+        self.assertEqual(plain_rows(SELF, 2), [[1, 2]])
+        self.assertEqual(source_paper(SELF, 0, 4), SOURCE)
+        same = plain_rows((3, (0, 0), SELF[2] * 2), 3)
+        self.assertIsNot(same[0], same[1])
+
+    def test_a_paper_that_is_told_of_and_then_changed(self):
+        paper = source_paper(SELF, 0, 4)
+        self.assertIsNone(source_fault(paper))
+        paper[5].append((((0, 0),), 1))
+        self.assertEqual(source_fault(paper), ("path", 1))
+        paper[5].clear()
+        self.assertEqual(source_fault(paper), ("ends",))
+        self.assertEqual(source_paper(SELF, 0, 4), SOURCE)
 
     def test_other_calls_between_change_nothing(self):
         for _ in range(2):
@@ -144,6 +199,43 @@ class HandedIn(unittest.TestCase):
         handed.append(2)
         self.assertIs(is_turn(2, (0, 1)), True)
         self.assertEqual(handed, [0, 1, 2])
+
+
+class Runs(unittest.TestCase):
+    def test_what_is_handed_in_stays(self):
+        state = (5, WEB, ((0,) * 12, (2,) * 12))
+        handed = deepcopy((WEB, state))
+        running = Running(WEB)
+        running.go(10 ** 9)
+        running.change(WEB)
+        running_of(state).go(77)
+        self.assertEqual((WEB, state), handed)
+
+    def test_what_only_asks_changes_nothing(self):
+        running = Running(WEB)
+        running.go(40)
+        for _ in range(500):
+            told = (running.scene(), running.now(), running.did(1, 12), running.kept(), len(running))
+        other = Running(WEB)
+        other.go(40)
+        self.assertEqual(told, (other.scene(), other.now(), other.did(1, 12), other.kept(), len(other)))
+        self.assertEqual([running.go(1) for _ in range(30)], [other.go(1) for _ in range(30)])
+
+    def test_what_is_refused_changes_nothing(self):
+        running = Running(WEB)
+        running.go(40)
+        kept = running.kept()
+        wrong = [3, (0, 2), []]
+        for call, handed, refusal in (
+            (running.go, [-1], NoBeat), (running.go, [[5]], NoBeat), (running.go, [10 ** 15], Late),
+            (running.change, [wrong], NoWeb), (running.change, [SELF], NotLike),
+            (running.did, [[0], 0], NoHand), (running.did, [0, [1]], NoBeat),
+        ):
+            as_it_was = deepcopy(handed)
+            with self.assertRaises(refusal):
+                call(*handed)
+            self.assertEqual(handed, as_it_was)
+            self.assertEqual(running.kept(), kept)
 
 
 if __name__ == "__main__":

@@ -34,10 +34,29 @@ FUNCTIONS = {
         "first_apart": "web hand other its", "first_parted": "web other", "renamed": "web order turn",
         "order_of": "web other", "side_by_side": "web other",
     },
+    "stories": {
+        "is_story": "thing", "story_doing": "story hand beat", "story_scene": "story beat",
+        "story_source": "story hand beat", "changed": "story beat web",
+    },
+    "papers": {
+        "round_paper": "web hand", "source_paper": "web hand beat", "round_fault": "paper", "source_fault": "paper",
+    },
+    "running": {"running_of": "state"},
+    "explains": {
+        "is_seen": "thing", "fits": "seen hand * most=12", "explaining": "seen * most=12",
+        "left_out": "seen hand * most=12",
+    },
 }
-NUMBERS = {"traces": {"MOST_STEPS": 500}}
+NUMBERS = {"traces": {"MOST_STEPS": 500}, "explains": {"MOST_AGO": 12}}
 CLASSES = {
     "errors": "HandError TooLong NoWindow NotLike NoBeat Late NoWeb NoHand NoState NoText NoRow",
+    "running": "Running",
+}
+METHODS = {
+    "running": {"Running": {
+        "__init__": "self web", "go": "self n", "change": "self web", "scene": "self", "did": "self hand ago",
+        "now": "self", "kept": "self", "__len__": "self",
+    }},
 }
 
 
@@ -49,6 +68,16 @@ class Interface(unittest.TestCase):
                 found = getattr(module, name)
                 self.assertEqual(found.__module__, module.__name__, name)
                 self.assertEqual(str(signature(found)), f"({', '.join(arguments.split())})", name)
+
+    def test_methods(self):
+        for file, classes in METHODS.items():
+            module = import_module("agohands." + file)
+            for name, methods in classes.items():
+                found = getattr(module, name)
+                for method, arguments in methods.items():
+                    # In the class itself, not in one above it.
+                    told = str(signature(vars(found)[method]))
+                    self.assertEqual(told, f"({', '.join(arguments.split())})", method)
 
     def test_numbers(self):
         for file, numbers in NUMBERS.items():
