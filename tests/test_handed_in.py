@@ -3,15 +3,19 @@
 import unittest
 from copy import deepcopy
 
-from agohands.errors import Late, NoBeat, NoHand, NoState, NotLike, NoWeb, NoWindow, TooLong
+from agohands.desk import Desk
+from agohands.errors import Late, NoBeat, NoHand, NoRow, NoState, NotLike, NoText, NoWeb, NoWindow, TooLong
 from agohands.explains import explaining, fits, is_seen, left_out
 from agohands.far import doing_at, doings_from, scene_at
+from agohands.forgets import forgets, hangs_on, web_forgets
+from agohands.keeps import kept_copies
 from agohands.likeness import first_apart, first_parted, order_of, renamed, side_by_side
 from agohands.meetings import how_often, is_test, kth_doing, times_of
 from agohands.papers import round_fault, round_paper, source_fault, source_paper
 from agohands.rows import plain_rows
 from agohands.running import Running, running_of
 from agohands.stories import changed, is_story, story_doing, story_scene, story_source
+from agohands.texts import read_web, show_web
 from agohands.times import (
     beside, both, count_below, either, is_meant, is_times, kth, moved, without,
 )
@@ -38,6 +42,7 @@ APART = (9, (0, 0, 0), tuple(
 OTHER = (3, (0,), (((1, 0, ("own", (1, 2))),),))
 STORY = ((0, SELF), (4, OTHER), (6, SELF))
 SEEN = (3, (0, 2), ((1, 2, 0), (2, 1, 1)))
+TEXT = "doings 3\nhand 0\nevery 1 at 0 copy 0 ago 1 by 1 2 0\n"
 ROUND = (SELF, 0, 0, 3, (0, ((0,),)))
 SOURCE = (SELF, 0, 4, 2, (0, -1, (2, 0, 1), 5), [(((0, 0),), 5)])
 
@@ -111,6 +116,15 @@ CALLS = (
     (fits, (SEEN, 0), [(0, 1, (1, 2, 0))]),
     (explaining, (SEEN,), (3, (0, 2), (((1, 0, ("copy", 0, 1, (1, 2, 0))),), ((1, 0, ("copy", 0, 1, (2, 1, 1))),)))),
     (left_out, (OTHER[:2] + (((1, 1, 2),),), 0), {(0, ago): 0 if ago == 2 else 1 for ago in range(1, 13)}),
+    (hangs_on, (SELF, 0, 10 ** 18), 0),
+    (hangs_on, (OTHER, 0, 10 ** 18), None),
+    (forgets, (SELF, 0), None),
+    (forgets, (WEB, 1), 5),
+    (web_forgets, (OTHER,), 0),
+    (kept_copies, (OTHER, 0), [(0, 1, (1, 2, 1))]),
+    (kept_copies, (SELF, 0), [(0, 1, (1, 2, 0))]),
+    (show_web, (SELF,), TEXT),
+    (read_web, (TEXT,), SELF),
 )
 REFUSED = (
     (trace, (SELF, 0, 499), TooLong),
@@ -134,6 +148,12 @@ REFUSED = (
     (changed, (STORY, 5, WEB), NotLike),
     (round_paper, (APART, 0), TooLong),
     (running_of, ([0, SELF, [[0] * 12]],), NoState),
+    (kept_copies, (APART, 0), TooLong),
+    (read_web, ([TEXT],), NoText),
+    (read_web, (TEXT + "\n",), NoText),
+    (Desk().say, (["scene"],), NoRow),
+    (Desk().say, ("scene",), NoRow),
+    (Desk().say, ("web " + TEXT,), NoText),
 )
 
 

@@ -46,17 +46,22 @@ FUNCTIONS = {
         "is_seen": "thing", "fits": "seen hand * most=12", "explaining": "seen * most=12",
         "left_out": "seen hand * most=12",
     },
+    "forgets": {"hangs_on": "web hand beat", "forgets": "web hand", "web_forgets": "web"},
+    "keeps": {"kept_copies": "web hand * most=12"},
+    "texts": {"show_web": "web", "read_web": "text"},
 }
 NUMBERS = {"traces": {"MOST_STEPS": 500}, "explains": {"MOST_AGO": 12}}
 CLASSES = {
     "errors": "HandError TooLong NoWindow NotLike NoBeat Late NoWeb NoHand NoState NoText NoRow",
     "running": "Running",
+    "desk": "Desk",
 }
 METHODS = {
     "running": {"Running": {
         "__init__": "self web", "go": "self n", "change": "self web", "scene": "self", "did": "self hand ago",
         "now": "self", "kept": "self", "__len__": "self",
     }},
+    "desk": {"Desk": {"__init__": "self", "say": "self row"}},
 }
 
 
