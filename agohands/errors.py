@@ -25,7 +25,8 @@ class Late(HandError):
     """The beat that would be come to is too late."""
 
     def __init__(self, at):
-        HandError.__init__(self, f"beat {at} is too late")
+        # The beat may have more figures than Python writes out.
+        HandError.__init__(self, "the beat that would be come to is too late")
         self.at = at
 
 

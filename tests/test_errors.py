@@ -34,7 +34,7 @@ class Refusals(unittest.TestCase):
                 self.assertEqual(str(caught.exception), "so it is")
 
     def test_late_is_made_of_a_beat(self):
-        for beat in (0, 10 ** 15 + 1, 10 ** 18):
+        for beat in (0, 10 ** 15 + 1, 10 ** 18, 10 ** 5000):
             with self.assertRaises(errors.Late) as caught:
                 raise errors.Late(beat)
             self.assertEqual(caught.exception.at, beat)

@@ -250,29 +250,21 @@ class Forgets(unittest.TestCase):
             hands.append((*rules, copy(1 - hand, chance.randint(10, 12), range(9))))
         return 9, (0, 1), tuple(hands)
 
-    def test_what_hangs_at_some_of_all_rounds_only(self):
-        # Hand 1 tells 0 and 1 apart from all others: what hand 0 may do is led
-        # round, so hand 1 may do one thing at some beats, and two at others.
-        swap = (1, 2, 0, 0)
-        web = (4, (0, 0), ((copy(0, 1, swap),), (copy(0, 1, (0, 0, 1, 0)),)))
-        self.assertIsNone(forgets(web, 0))
-        self.assertIsNone(forgets(web, 1))
-        # Two are left of all, and are led round; hand 1 makes one of them at
-        # two of three beats.
-        pair = (4, (0, 0), ((copy(0, 3, (0, 0, 1, 1), every=4), copy(0, 1, (1, 2, 0, 3))), (copy(0, 1, (0, 0, 1, 0)),)))
-        told = plain_forgets(pair, 3000)
-        self.assertEqual([forgets(pair, hand) for hand in (0, 1)], told)
+    def test_hanging_at_some_beats_of_each_clock(self):
+        # Of all doings some are left and are led round: hand 1 makes one of
+        # them at some beats, and two at others.
+        web = (4, (0, 0), ((copy(0, 1, (1, 2, 0, 0)),), (copy(0, 1, (0, 0, 1, 0)),)))
+        self.assertEqual([forgets(web, hand) for hand in (0, 1)], [None, None])
+        web = (4, (0, 0), ((copy(0, 3, (0, 0, 1, 1), every=4), copy(0, 1, (1, 2, 0, 3))), (copy(0, 1, (0, 0, 1, 0)),)))
+        told = plain_forgets(web, 3000)
+        self.assertEqual([forgets(web, hand) for hand in (0, 1)], told)
+        rows = sets_on(web, 1000)
+        self.assertEqual({len(its) for its in rows[1][900:]}, {1, 2})
 
-    def test_seldom_for_ever(self):
-        # The two doings that are left are told apart at one of nine rounds.
-        first = (0, 1, 0, 0, 0, 0, 0, 0, 0)
-        web = (9, (0, 0, 0), (
-            (copy(0, 1, circle(9)),),
-            (copy(0, 1, first),),
-            (copy(1, 1, (0, 1, 0, 0, 0, 0, 0, 0, 0)),),
-        ))
-        for hand in range(3):
-            self.assertIsNone(forgets(web, hand))
+    def test_of_many_turns_that_make_few_of_many(self):
+        one_apart = (0, 1, 0, 0, 0, 0, 0, 0, 0)
+        web = alone((copy(0, 1, circle(9)),), (copy(0, 1, one_apart),), (copy(1, 1, one_apart),))
+        self.assertEqual([forgets(web, hand) for hand in range(3)], [None, None, None])
         chance = Random(10)
         for _ in range(60):
             turns = [tuple(chance.randrange(5) for _ in range(5)) for _ in range(4)]

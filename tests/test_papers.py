@@ -394,7 +394,7 @@ class Faults(unittest.TestCase):
             for beat in (5, 999, FAR):
                 paper = source_paper(web, 0, beat)
                 for k, (rows, times) in enumerate(paper[5]):
-                    for more in (10 ** 19, 10 ** 40, 10 ** 500):
+                    for more in (10 ** 19, 10 ** 40, 10 ** 5000):
                         path = [*paper[5][:k], (rows, times + more)]
                         self.assertEqual(source_fault(with_path(paper, path)), ("path", k))
 

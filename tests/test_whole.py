@@ -93,7 +93,7 @@ def tellers(web):
 
 class OneDoing(unittest.TestCase):
     def test_near(self):
-        for web in (*webs(24, seed=1), *KINDS):
+        for web in (*webs(12, seed=1), *KINDS):
             rows = going(web, 500)
             for name, teller in tellers(web).items():
                 for beat in (0, 1, 6, 7, 13, 99, 241, 300, 487):
@@ -101,13 +101,13 @@ class OneDoing(unittest.TestCase):
             self.assertEqual(plain_rows(web, 500), rows)
 
     def test_far(self):
-        for web in (*webs(24, seed=2), *KINDS):
+        for web in (*webs(12, seed=2), *KINDS):
             for beat in (10 ** 9 - 1, 10 ** 9, 123456789012, LAST - 1, LAST):
                 told = {name: teller(beat) for name, teller in tellers(web).items()}
                 self.assertEqual(set(told.values()), {scene_at(web, beat)}, told)
 
     def test_to_the_last_beat(self):
-        for web in (*webs(24, seed=3), *KINDS):
+        for web in (*webs(12, seed=3), *KINDS):
             for beat in (10 ** 17, FAR - 1, FAR):
                 told = {
                     name: teller(beat) for name, teller in tellers(web).items()
@@ -138,7 +138,7 @@ class ForEver(unittest.TestCase):
 
     def test_rounds_times_counts_and_kept_copies_hold_at_far_beats(self):
         chance = Random(5)
-        for web in (*webs(60, seed=6), *KINDS):
+        for web in (*webs(40, seed=6), *KINDS):
             told = self.round_of(web)
             if told is None:
                 continue
