@@ -225,13 +225,13 @@ class Forgets(unittest.TestCase):
     def test_late(self):
         found = []
         chance = Random(9)
-        for _ in range(400):
+        for _ in range(300):
             web = self.slow_web(chance)
             told = [forgets(web, hand) for hand in (0, 1)]
             if told[0] is not None and told[1] is not None and min(told) > 2000:
                 found.append(min(told))
                 for hand in (0, 1):
-                    self.assert_from_then_on(web, hand, told[hand], (*range(0, 3000, 7), FAR // 2, FAR // 2 + 1))
+                    self.assert_from_then_on(web, hand, told[hand], (*range(0, 3000, 29), FAR // 2, FAR // 2 + 1))
                     row = sets_on(web, max(told) + 3000)[hand]
                     self.assertGreater(len(row[told[hand] - 1]), 1)
                     self.assertEqual({len(its) for its in row[told[hand]:]}, {1})

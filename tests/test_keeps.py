@@ -40,7 +40,7 @@ class Keeps(unittest.TestCase):
 
     def test_against_rows_up_to_where_all_comes_again(self):
         kept = 0
-        for web in (*webs(90, seed=1), MIXED, NO_COPIES, ONE_DOING):
+        for web in (*webs(60, seed=1), MIXED, NO_COPIES, ONE_DOING):
             rows = going(web, 5000)
             told = plain_round(web, rows, 1500)
             if told is None:
@@ -51,7 +51,7 @@ class Keeps(unittest.TestCase):
                     self.assertEqual(kept_copies(web, hand, most=most), expected)
                     kept += len(expected)
                 self.assertEqual(kept_copies(web, hand), expected)
-        self.assertGreater(kept, 1000)
+        self.assertGreater(kept, 500)
 
     def test_just_in_time(self):
         for web in (JUST_IN_TIME, FROM_THE_FIRST):
@@ -78,7 +78,7 @@ class Keeps(unittest.TestCase):
             self.assertIn((1, ago), [told[:2] for told in kept_copies(web, 2)])
 
     def test_what_each_copy_rule_does_is_kept(self):
-        for web in webs(60, seed=2):
+        for web in webs(45, seed=2):
             rows = going(web, 5000)
             if plain_round(web, rows) is None:
                 continue
@@ -137,7 +137,7 @@ class Keeps(unittest.TestCase):
             self.assertEqual(told, sorted(set(told)))
 
     def test_held_at_far_beats_too(self):
-        for web in webs(60, seed=3):
+        for web in webs(40, seed=3):
             try:
                 told = kept_copies(web, 0)
             except TooLong:
@@ -147,7 +147,7 @@ class Keeps(unittest.TestCase):
                 self.assertEqual([turn[doing] for doing in its], row)
 
     def test_what_is_not_told_is_broken_at_some_beat(self):
-        for web in webs(40, seed=4):
+        for web in webs(25, seed=4):
             try:
                 told = [part[:2] for part in kept_copies(web, 0)]
             except TooLong:

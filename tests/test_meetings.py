@@ -319,8 +319,9 @@ class KthDoing(unittest.TestCase):
                     beats = [beat for beat, done in enumerate(row) if done == doing]
                     for k in (0, 1, 5, len(beats) - 1):
                         if 0 <= k < len(beats):
-                            self.assertEqual(kth_doing(web, hand, doing, k), beats[k])
-                            self.assertIs(type(kth_doing(web, hand, doing, k)), int)
+                            told = kth_doing(web, hand, doing, k)
+                            self.assertEqual(told, beats[k])
+                            self.assertIs(type(told), int)
 
     def test_none_where_there_are_no_so_many(self):
         web = alone((copy(0, 2, (1, 2, 3, 3)),), many=4)

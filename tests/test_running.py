@@ -94,8 +94,8 @@ class Going(unittest.TestCase):
     def test_just_around_the_clock(self):
         for web in (*webs(30, seed=4), *KINDS):
             scenes = scenes_of(web, 1600)
-            for start in (0, 1, 7, 239, 240):
-                for n in (1, 12, 13, 24, 228, 239, 240, 241, 251, 252, 253, 480, 493, 720, 1000, 1300):
+            for start in (0, 1, 239, 240):
+                for n in (1, 12, 13, 228, 239, 240, 241, 251, 252, 253, 480, 493, 1300):
                     running = Running(web)
                     running.go(start)
                     self.assertEqual(running.go(n), scenes[start + n])

@@ -102,7 +102,7 @@ class OneDoing(unittest.TestCase):
 
     def test_far(self):
         for web in (*webs(12, seed=2), *KINDS):
-            for beat in (10 ** 9 - 1, 10 ** 9, 123456789012, LAST - 1, LAST):
+            for beat in (10 ** 9, 123456789012, LAST - 1, LAST):
                 told = {name: teller(beat) for name, teller in tellers(web).items()}
                 self.assertEqual(set(told.values()), {scene_at(web, beat)}, told)
 
